@@ -1,0 +1,1 @@
+"""Oncework: functions that are called, copies of steps, and pieces of work."""

@@ -1,0 +1,1 @@
+"""Terms, and the steps that are done in them."""

@@ -1,0 +1,90 @@
+"""Terms that several tests use, wrong values, and random terms."""
+
+import random
+
+from oncework.errors import InvalidTerm, ParseError, TooMany
+
+I = (-1, 1)
+COPY = (-1, 0, 1, 1)
+TWICE = (0, -1, 0, 1, 1, 0, -1, 1, -1, 1)
+CHAIN = (0, -1, 1, 0, -1, 1, 2)
+
+# Doing its only step makes the same term again.
+LOOP = (0,) + COPY + COPY
+
+# A function in the body, open variables of several depths, a dropped argument.
+DEEP = (-1, 0, -1, -1, 0, 0, 2, 4, 3, 0, -1, 5, 0, 1, 3)
+
+LONG = (-1,) * 399 + (1,)
+TOO_LONG = (-1,) * 400 + (1,)
+
+# The argument has 199 parts, then 200: two copies and a call are 399 and 401.
+GROWS = (0,) + COPY + (-1,) * 198 + (1,)
+GROWS_TOO_LONG = (0,) + COPY + (-1,) * 199 + (1,)
+GROWS_TO_400 = (0, -1, -1, 0, 2, 2) + (-1,) * 198 + (1,)
+
+# The copy comes below one function, which raises its open variable by one.
+RAISES = (0, -1, -1, 2, 999)
+RAISES_TOO_HIGH = (0, -1, -1, 2, 1000)
+GROWS_BOTH_WAYS = (0, -1, -1, 0, 2, 2) + (-1,) * 199 + (1000,)
+
+WORKED = [I, COPY, TWICE, CHAIN, LOOP, DEEP, (1,), (1000,), (0, 3, 3), RAISES]
+
+
+def nested(value, wrap, deep):
+    """The value within so many tuples, lists or dicts."""
+    for _ in range(deep):
+        value = wrap(value)
+    return value
+
+
+# None of these is a term, a place, a number to raise by, a history or a lot.
+JUNK = [
+    None, True, False, "", "0", "(0, 1, 1)", "a\tb\nc", "x" * 20000,
+    [], [0], [1], [0, 1, 1], [[]], {}, {0: 1}, {"a": [1]},
+    nested(1, lambda x: (x,), 8), nested(1, lambda x: [x], 8), nested(1, lambda x: {"k": x}, 8),
+    InvalidTerm("x"), ParseError(None), TooMany(400),
+    10 ** 60 - 1, 10 ** 60, -10 ** 60 + 1, -10 ** 60, 10 ** 219, -10 ** 219,
+    (True,), (False,), (None,), ("0",), ("1",), ([0],), ((0,),), ((),), ({},), (InvalidTerm("x"),),
+    (10 ** 60 - 1,), (10 ** 60,), (-10 ** 219,), (-2,), (0, 0), (0, None), (0, "1", 1), (0, [1], 1),
+]
+
+WRONG_TERMS = JUNK + [
+    0, 1, -1, (), (0,), (-1,), (0, 1), (-1, 0, 1), (1, 1), (0, 1, 1, 1), (1, -1), (0, 1, -1),
+    (-2, 1), (0, -2, 1), (1001,), (-1, 1001), (0, 1, 1001), (0, True, 1), (0, 1, True),
+    (False, 1, 1), (-1, True), (0, 1, False), (0, 1, None), (0, 1, "1"), (0, 1, (1,)),
+    (0, 1, 10 ** 60), TOO_LONG, [-1, 1], list(TWICE), (0,) * 5000, (1,) * 5000, (0, 1) * 200 + (1,),
+]
+
+# These four lists hold what is wrong of TWICE.
+WRONG_PLACES = JUNK + [-1, -10, 10, 11, (), (0,), (5,), 1000]
+WRONG_STEPS = WRONG_PLACES + [1, 2, 3, 4, 6, 7, 8, 9]
+WRONG_HISTORIES = JUNK + [
+    0, 5, [5], [0, 1], (1,), (-1,), (10,), (0, 5), (5, 5), (0, 1, 1), (0, True), (0, 1, False),
+    (5, 0, 0, 0), (0, (1,)), (0, [1]), (0, 10 ** 60), (0,) * 61, (0,) * 5000,
+]
+WRONG_LOTS = JUNK + [
+    0, 5, [0, 5], [5], (5, 0), (5, 5), (0, 5, 5), (1,), (-1,), (10,), (-5,), (0, 1), (0, 5, 6),
+    (False, 5), (0, True), (0, 5, None), (0, (5,)), (0, [5]), (0, 10 ** 60), (0,) * 5000,
+]
+WRONG_NUMBERS = JUNK + [-1, 1001, -1000, (), (0,), (1, 2)]
+
+
+def random_term(rng, parts, depth=0):
+    """A term with about so many parts, some of its variables open."""
+    if parts <= 1:
+        return (rng.randint(1, depth + 2),)
+    if parts == 2 or rng.random() < 0.35:
+        return (-1,) + random_term(rng, parts - 1, depth + 1)
+    left = rng.randint(1, parts - 2)
+    if rng.random() < 0.6 and left > 1:
+        function = (-1,) + random_term(rng, left - 1, depth + 1)
+    else:
+        function = random_term(rng, left, depth)
+    return (0,) + function + random_term(rng, parts - 1 - left, depth)
+
+
+def random_terms(seed, many, parts):
+    """So many random terms with at most about so many parts, always the same."""
+    rng = random.Random(seed)
+    return [random_term(rng, rng.randint(1, parts)) for _ in range(many)]
