@@ -2,6 +2,7 @@
 
 import random
 
+import model
 from oncework.errors import InvalidTerm, ParseError, TooMany
 
 I = (-1, 1)
@@ -27,6 +28,18 @@ GROWS_TO_400 = (0, -1, -1, 0, 2, 2) + (-1,) * 198 + (1,)
 RAISES = (0, -1, -1, 2, 999)
 RAISES_TOO_HIGH = (0, -1, -1, 2, 1000)
 GROWS_BOTH_WAYS = (0, -1, -1, 0, 2, 2) + (-1,) * 199 + (1000,)
+
+# The argument of the outer step: its own step raises its variable, or drops it.
+RAISES_TWICE = (0, -1, -1, 2, 0, -1, -1, 2, 999)
+RAISES_WHAT_DROPS = (0, -1, -1, 2, 0, -1, 5, 1000)
+
+# Of 40 parts, and of 41.
+FORTY = (0,) + COPY + (-1,) * 34 + (1,)
+FORTY_ONE = (0,) + COPY + (-1,) * 35 + (1,)
+
+# Each level copies the level below: done from within it takes two steps for each
+# level, done from the root more than sixty.
+LEVELS = ((0,) + COPY) * 7 + I
 
 WORKED = [I, COPY, TWICE, CHAIN, LOOP, DEEP, (1,), (1000,), (0, 3, 3), RAISES]
 
@@ -68,6 +81,32 @@ WRONG_LOTS = JUNK + [
     (False, 5), (0, True), (0, 5, None), (0, (5,)), (0, [5]), (0, 10 ** 60), (0,) * 5000,
 ]
 WRONG_NUMBERS = JUNK + [-1, 1001, -1000, (), (0,), (1, 2)]
+WRONG_COUNTS = JUNK + [-1, 61, 151, 1000, (), (0,), (1, 2)]
+
+# From stage 4 on.
+WRONG_SMALL_TERMS = WRONG_TERMS + [FORTY_ONE, LONG]
+WRONG_FEW_TERMS = WRONG_SMALL_TERMS + [FORTY, (-1,) * 12 + (1,)]
+
+# None of these is a name for the ten letters of TWICE, a lot of names, or a row of names.
+WRONG_NAMES = [value for value in JUNK if value != ((0,),)] + [
+    0, 1, (), (1,), ((),), ([1],), [(1,)], ((1,), [6]), ((1, 10),), ((1, 10, 1),), ((10,),), ((-1,),),
+    ((1,), (6,)), ((1,), (1, 10)), ((1,), (1, 12, 1)), ((1,), (1, 9, 1)), ((1,), (10, 10, 1)),
+    ((1,), (1,)), ((6,), (1,), (3, 12, 5, 10, 7)), ((1,), (6,), (3, 11, 5)), ((True,),), ((False,),),
+    ((1,), (True, 10, 1)), ((1,), (1, 10, None)), ((1,), ("1", 10, 1)), ((1,), (1, (10,), 1)),
+    (1, (1, 10, 1)), ((1,), None), ((1,), 6), (((1,),),), ((10 ** 60,),), ((1,), (1, 10 ** 60, 1)),
+    ((0,), (0, 10, 1), (0, 10, 2, 12, 1, 16, 1)),
+]
+NAME = ((1,),)
+NAMES = (((1,),), ((6,),))
+WRONG_LOTS_OF_NAMES = JUNK + [
+    0, NAME, ((6,),), list(NAMES), (((6,),), ((1,),)), (((1,),), ((1,),)), (NAME, None), (None, NAME),
+    (NAME, [(6,)]), (NAME, ((True,),)), (NAME, ((10,),)), ((),), (NAME, ()), ((NAME,),),
+    tuple([((k,),) for k in range(10)]) + (((1,), (1, 10, 1)), ((1,), (1, 10, 2)), ((1,), (1, 10, 3))),
+]
+WRONG_ROWS = JUNK + [
+    0, NAME, ((6,),), list(NAMES), (NAME, None), (None, NAME), (NAME, [(6,)]), (NAME, ((True,),)),
+    (NAME, ((10,),)), ((),), (NAME, ()), ((NAME,),), (NAME,) * 61,
+]
 
 
 def random_term(rng, parts, depth=0):
@@ -88,3 +127,57 @@ def random_terms(seed, many, parts):
     """So many random terms with at most about so many parts, always the same."""
     rng = random.Random(seed)
     return [random_term(rng, rng.randint(1, parts)) for _ in range(many)]
+
+
+def lively_term(rng, parts, depth=0):
+    """As `random_term`, with more steps, and functions that use their parameters more often."""
+    if parts <= 1:
+        return (rng.randint(1, max(1, depth + (rng.random() < 0.3))),)
+    if parts == 2 or rng.random() < 0.15:
+        return (-1,) + lively_term(rng, parts - 1, depth + 1)
+    left = rng.randint(1, parts - 2)
+    if left > 1 and rng.random() < 0.7:
+        function = (-1,) + lively_body(rng, left - 1, depth + 1)
+    else:
+        function = lively_term(rng, left, depth)
+    return (0,) + function + lively_term(rng, parts - 1 - left, depth)
+
+
+def lively_body(rng, parts, depth):
+    """A part within a function that most of its variables are the parameter of."""
+    if parts <= 1:
+        return (1 if rng.random() < 0.8 else rng.randint(1, depth + 1),)
+    if parts == 2 or rng.random() < 0.25:
+        return (-1,) + lively_body(rng, parts - 1, depth + 1)
+    left = rng.randint(1, parts - 2)
+    if left > 1 and rng.random() < 0.6:
+        function = (-1,) + lively_body(rng, left - 1, depth + 1)
+    else:
+        function = lively_body(rng, left, depth)
+    return (0,) + function + lively_body(rng, parts - 1 - left, depth)
+
+
+def lively_terms(seed, many, parts):
+    """So many lively terms with at most so many parts, each with a step; always the same."""
+    rng = random.Random(seed)
+    found = []
+    while len(found) < many:
+        term = lively_term(rng, rng.randint(4, parts))
+        if len(term) <= parts and (0, -1) in zip(term, term[1:]):
+            found.append(term)
+    return found
+
+
+def some_history(rng, term, most):
+    """A history of at most so many steps, all of its terms being let."""
+    history = ()
+    while len(history) < most:
+        places = [at for at in range(len(term) - 1) if term[at:at + 2] == (0, -1)]
+        if not places:
+            break
+        place = rng.choice(places)
+        term = model.done(term, place)[0]
+        if len(term) > 400 or max(term) > 1000:
+            break
+        history += (place,)
+    return history

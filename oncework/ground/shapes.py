@@ -9,7 +9,7 @@ WHOLE_END = 10 ** 60
 
 def is_whole(value):
     """Whether the value is an integer that may be passed."""
-    if not isinstance(value, int) or isinstance(value, bool):
+    if not isinstance(value, int) or value is True or value is False:
         return False
     return -WHOLE_END < value < WHOLE_END
 
@@ -19,17 +19,17 @@ def is_whole_within(value, least, most):
     return is_whole(value) and least <= value <= most
 
 
-def end_behind(term, place):
+def end_behind(parts, place):
     """The index behind the last part within the part at the place."""
     wanted = 1
-    end = place
-    while wanted > 0:
-        if term[end] == 0:
-            wanted += 1
-        elif term[end] > 0:
+    for at, part in enumerate(parts[place:]):
+        if part > 0:
             wanted -= 1
-        end += 1
-    return end
+            if wanted == 0:
+                return place + at + 1
+        elif part == 0:
+            wanted += 1
+    return len(parts)
 
 
 def slots_of(term):

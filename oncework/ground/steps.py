@@ -1,21 +1,17 @@
 """Steps, the copies that they make, histories, and lots."""
 
 from oncework.errors import InvalidHistory, InvalidLot, InvalidPlace, TooMany
-from oncework.ground.shapes import depths_in, end_behind, is_whole_within, raised_parts
-from oncework.ground.terms import check_limits, check_place, check_term, passed_limit
+from oncework.ground.copying import do_step, origins_made, stands_step, steps_in, term_made
+from oncework.ground.shapes import is_whole_within
+from oncework.ground.terms import check_limits, check_made, check_place, check_term, passed_limit
 
 MOST_STEPS = 60
-
-
-def stands_step(term, place):
-    """Whether a part of the term is a call whose function part is a function."""
-    return term[place] == 0 and term[place + 1] == -1
 
 
 def steps_of(term):
     """The places of all steps of a term, ascending."""
     check_term(term)
-    return tuple([place for place in range(len(term)) if stands_step(term, place)])
+    return tuple(steps_in(term))
 
 
 def is_step(term, value):
@@ -35,46 +31,6 @@ def check_step(term, place):
         raise InvalidPlace("not a step of the term")
 
 
-def body_made(body, start, argument, copied):
-    """What the body becomes: pairs of an integer and of its place in the term.
-
-    The body begins at the place `start`, the argument at the place `copied`.
-    """
-    made = []
-    for at, (part, around) in enumerate(zip(body, depths_in(body))):
-        if part == around + 1:
-            # The copy gets below functions that its open variables skip.
-            raised = raised_parts(argument, around)
-            made.extend([(inner, copied + k) for k, inner in enumerate(raised)])
-        elif part > around + 1:
-            # The function of the step was one of those that it skips.
-            made.append((part - 1, start + at))
-        else:
-            made.append((part, start + at))
-    return made
-
-
-def parts_made(term, place):
-    """The integer and the origin of each part of what the step makes."""
-    start = place + 2
-    copied = end_behind(term, start)
-    end = end_behind(term, copied)
-    ahead = [(term[k], k) for k in range(place)]
-    inside = body_made(term[start:copied], start, term[copied:end], copied)
-    behind = [(term[k], k) for k in range(end, len(term))]
-    return ahead + inside + behind
-
-
-def term_made(term, place):
-    """The term that the step makes, of any size."""
-    return tuple([part for part, _ in parts_made(term, place)])
-
-
-def origins_made(term, place):
-    """The origin of each part of what the step makes."""
-    return tuple([origin for _, origin in parts_made(term, place)])
-
-
 def step_done(term, place):
     """The term that the step makes."""
     check_term(term)
@@ -88,14 +44,13 @@ def origins(term, place):
     """For each part of what the step makes the place from which it comes."""
     check_term(term)
     check_step(term, place)
-    return origins_made(term, place)
+    return tuple(origins_made(term, place))
 
 
 def rests_made(term, place, places):
     """The rests of several parts, all together, behind one step."""
-    wanted = {k: True for k in places}
-    sources = origins_made(term, place)
-    return tuple([at for at, source in enumerate(sources) if source in wanted])
+    wanted = {at: True for at in places}
+    return tuple([at for at, source in enumerate(origins_made(term, place)) if source in wanted])
 
 
 def rests(term, place, other):
@@ -107,17 +62,21 @@ def rests(term, place, other):
 
 
 def terms_along(term, value):
-    """All terms that a history passes, ends included; None if it is none."""
+    """All terms that a history passes, ends included; None if it is none.
+
+    The first term is not looked at, so it can have any size.
+    """
     if not isinstance(value, tuple) or len(value) > MOST_STEPS:
         return None
-    terms = [term]
+    now = term
+    terms = [now]
     for place in value:
-        if not fits_step(terms[-1], place):
+        if not fits_step(now, place):
             return None
-        made = term_made(terms[-1], place)
-        if passed_limit(made) is not None:
+        now = term_made(now, place)
+        if passed_limit(now) is not None:
             return None
-        terms.append(made)
+        terms.append(now)
     return terms
 
 
@@ -127,6 +86,11 @@ def terms_of_history(term, history):
     if terms is None:
         raise InvalidHistory("not a history of the term")
     return terms
+
+
+def check_history(term, history):
+    """Refuse what is no history of the term."""
+    terms_of_history(term, history)
 
 
 def is_history(term, value):
@@ -141,15 +105,26 @@ def end_of(term, history):
     return terms_of_history(term, history)[-1]
 
 
+def marks_of(parts, places):
+    """A track that is True at the places, with one True more behind all parts."""
+    marks = [False] * len(parts)
+    for place in places:
+        marks[place] = True
+    # So the next marked place can always be found.
+    marks.append(True)
+    return marks
+
+
 def rests_behind(term, history, place):
     """The places at the end of the history that come from the place."""
     check_term(term)
-    terms = terms_of_history(term, history)
+    check_history(term, history)
     check_place(term, place)
-    places = (place,)
-    for before, step in zip(terms, history):
-        places = rests_made(before, step, places)
-    return places
+    parts = list(term)
+    marks = marks_of(parts, (place,))
+    for step in history:
+        do_step(parts, (marks,), step)
+    return tuple([at for at in range(len(parts)) if marks[at]])
 
 
 def fits_lot(term, value):
@@ -176,22 +151,20 @@ def check_lot(term, lot):
         raise InvalidLot("not a lot of the term")
 
 
-def development(term, lot):
-    """The history that does a lot, and its end."""
+def development(term, lot, ahead=0):
+    """The history that does a lot, and its end; `ahead` tells how many steps were done before."""
+    parts = list(term)
+    marks = marks_of(parts, lot)
     places = []
-    now = term
-    left = lot
-    while len(left) > 0:
-        if len(places) == MOST_STEPS:
+    place = marks.index(True)
+    while place < len(parts):
+        if ahead + len(places) == MOST_STEPS:
             raise TooMany(MOST_STEPS)
-        place = left[0]
-        made = term_made(now, place)
-        check_limits(made)
-        # The step that is done has no rests, so it drops out by itself.
-        left = rests_made(now, place, left)
+        # Nothing to the left of the step can become a rest, and the step itself has none.
+        check_made(parts, do_step(parts, (marks,), place))
         places.append(place)
-        now = made
-    return tuple(places), now
+        place = marks.index(True, place)
+    return tuple(places), tuple(parts)
 
 
 def lot_history(term, lot):

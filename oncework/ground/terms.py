@@ -7,6 +7,9 @@ from oncework.ground.shapes import is_whole_within, raised_parts, slots_of
 MAX_PARTS = 400
 MAX_VARIABLE = 1000
 
+# From stage 4 on the terms that are passed have at most so many parts.
+SMALL_PARTS = 40
+
 
 def is_term(value):
     """Whether the value is a term that may be passed."""
@@ -14,19 +17,28 @@ def is_term(value):
         return False
     wanted = 1
     for part in value:
-        if wanted == 0 or not is_whole_within(part, -1, MAX_VARIABLE):
+        # Asked here and not by a helper, as nearly every call of the package asks this.
+        if wanted == 0 or not isinstance(part, int) or part is True or part is False:
             return False
-        if part == 0:
-            wanted += 1
-        elif part > 0:
+        if part > 0:
             wanted -= 1
-    return wanted == 0
+        elif part == 0:
+            wanted += 1
+        elif part < -1:
+            return False
+    return wanted == 0 and max(value) <= MAX_VARIABLE
 
 
 def check_term(term):
     """Refuse what is no term."""
     if not is_term(term):
         raise InvalidTerm("no term with at most 400 parts and variables up to 1000")
+
+
+def check_small_term(term):
+    """Refuse what is no term, and one with too many parts to be passed."""
+    if not is_term(term) or len(term) > SMALL_PARTS:
+        raise InvalidTerm("no term with at most 40 parts and variables up to 1000")
 
 
 def check_place(term, place):
@@ -49,6 +61,14 @@ def check_limits(term):
     limit = passed_limit(term)
     if limit is not None:
         raise TooMany(limit)
+
+
+def check_made(parts, made):
+    """As `check_limits`, where all but the integers that were made is known to be let."""
+    if len(parts) > MAX_PARTS:
+        raise TooMany(MAX_PARTS)
+    if max(made) > MAX_VARIABLE:
+        raise TooMany(MAX_VARIABLE)
 
 
 def part_end(term, place):

@@ -1,0 +1,1 @@
+"""Names of parts and steps, and lots of names."""
