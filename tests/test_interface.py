@@ -7,6 +7,12 @@ import unittest
 CONSTANTS = {
     "oncework.ground.terms": {"MAX_PARTS": 400, "MAX_VARIABLE": 1000},
     "oncework.ground.steps": {"MOST_STEPS": 60},
+    "oncework.labels.names": {"MAX_WORDS": 2000},
+    "oncework.labels.lots": {"MAX_NAMES": 12},
+    "oncework.pieces.drawn": {"MOST_TO": 4, "MOST_HISTORIES": 500},
+    "oncework.pieces.roots": {"MOST_ROOT_STEPS": 60},
+    "oncework.pieces.numerals": {"MAX_NUMERAL": 150},
+    "oncework.pieces.whole": {"MAX_FEW_PARTS": 12, "MAX_FEW": 4},
 }
 FUNCTIONS = {
     "oncework.ground.terms": {
@@ -21,6 +27,43 @@ FUNCTIONS = {
         "origins": "term place", "rests": "term place other", "is_history": "term value",
         "end_of": "term history", "rests_behind": "term history place", "is_lot": "term value",
         "lot_history": "term lot", "lot_done": "term lot",
+    },
+    "oncework.ground.behind": {
+        "lot_behind": "term lot place", "history_behind": "term one other",
+        "met_end": "term one other", "are_one_class": "term one other",
+        "left_step": "term one other",
+    },
+    "oncework.ground.standard": {
+        "is_standard": "term history", "first_fault": "term history",
+        "standard_of": "term history", "standard_histories": "term most",
+    },
+    "oncework.labels.names": {
+        "names_along": "term history", "part_name": "term history place",
+        "step_name": "term history", "is_name": "term value", "name_height": "term name",
+        "letters_of": "term name", "inner_names": "term name", "led_name": "term history name",
+    },
+    "oncework.labels.lots": {
+        "open_names": "term history", "names_done": "term history names",
+        "are_names_done": "term history names value", "finished_names": "term history",
+    },
+    "oncework.pieces.drawn": {
+        "had_without": "term place history", "drawn_out": "term history",
+        "is_drawn_out": "term history", "are_one_piece": "term one other",
+        "pieces_to": "term most",
+    },
+    "oncework.pieces.roots": {
+        "root_step": "term", "is_last": "value", "root_history": "term most", "last_form": "term",
+        "root_length": "term", "is_needed": "term place", "needed_steps": "term",
+        "needless_history": "term place",
+    },
+    "oncework.pieces.numerals": {
+        "numeral": "number", "numeral_of": "term", "sum_term": "one other",
+        "product_term": "one other", "power_term": "one other",
+    },
+    "oncework.pieces.whole": {
+        "piece_history": "term history name", "row_of": "term history",
+        "row_history": "term row", "root_pieces": "term", "piece_rows": "term most",
+        "fewest_pieces": "term most",
     },
 }
 
@@ -42,6 +85,10 @@ class Interface(unittest.TestCase):
                 for parameter in told.values():
                     self.assertEqual(parameter.kind, parameter.POSITIONAL_OR_KEYWORD)
                     self.assertIs(parameter.default, parameter.empty)
+
+    def test_the_generator(self):
+        standard = importlib.import_module("oncework.ground.standard")
+        self.assertTrue(inspect.isgeneratorfunction(standard.standard_histories))
 
 
 if __name__ == "__main__":

@@ -3,20 +3,42 @@
 import unittest
 
 from oncework import errors
-from oncework.ground import steps, terms
-from samples import (GROWS_BOTH_WAYS, GROWS_TOO_LONG, I, JUNK, LONG, LOOP, RAISES_TOO_HIGH, TWICE,
-                     WRONG_HISTORIES, WRONG_LOTS, WRONG_NUMBERS, WRONG_PLACES, WRONG_STEPS,
-                     WRONG_TERMS)
+from oncework.ground import behind, standard, steps, terms
+from oncework.labels import lots, names
+from oncework.pieces import drawn, numerals, roots, whole
+from samples import (GROWS_BOTH_WAYS, GROWS_TOO_LONG, I, JUNK, LONG, LOOP, NAME, NAMES,
+                     RAISES_TOO_HIGH, TWICE, WRONG_COUNTS, WRONG_FEW_TERMS, WRONG_HISTORIES,
+                     WRONG_LOTS, WRONG_LOTS_OF_NAMES, WRONG_NAMES, WRONG_NUMBERS, WRONG_PLACES,
+                     WRONG_ROWS, WRONG_SMALL_TERMS, WRONG_STEPS, WRONG_TERMS)
 
 # For each kind of parameter a right value for TWICE, the wrong ones, and their error.
 KINDS = {
     "term": (TWICE, WRONG_TERMS, errors.InvalidTerm),
+    "small": (TWICE, WRONG_SMALL_TERMS, errors.InvalidTerm),
+    "few": (TWICE, WRONG_FEW_TERMS, errors.InvalidTerm),
     "place": (5, WRONG_PLACES, errors.InvalidPlace),
     "step": (5, WRONG_STEPS, errors.InvalidPlace),
     "history": ((0, 1), WRONG_HISTORIES, errors.InvalidHistory),
+    "beginning": ((), WRONG_HISTORIES, errors.InvalidHistory),
+    "further": ((0,), [value for value in WRONG_HISTORIES if value != (0, 0)],
+                errors.InvalidHistory),
     "lot": ((0, 5), WRONG_LOTS, errors.InvalidLot),
+    "name": (NAME, WRONG_NAMES, errors.InvalidName),
+    "names": (NAMES, WRONG_LOTS_OF_NAMES, errors.InvalidName),
+    "row": ((NAME,), WRONG_ROWS, errors.InvalidName),
     "number": (7, WRONG_NUMBERS, errors.InvalidNumber),
+    "to4": (2, WRONG_COUNTS + [5], errors.InvalidNumber),
+    "1to4": (2, WRONG_COUNTS + [0, 5], errors.InvalidNumber),
+    "to60": (7, WRONG_COUNTS, errors.InvalidNumber),
+    "to150": (7, [value for value in WRONG_COUNTS if value != 61], errors.InvalidNumber),
 }
+
+
+def all_standard_histories(term, most):
+    """A generator raises its errors when its first result is asked for."""
+    return list(standard.standard_histories(term, most))
+
+
 
 # The kinds of the parameters of each function of the interface that raises errors.
 FUNCTIONS = [
@@ -29,8 +51,34 @@ FUNCTIONS = [
     (steps.origins, ("term", "step")), (steps.rests, ("term", "step", "place")),
     (steps.end_of, ("term", "history")), (steps.rests_behind, ("term", "history", "place")),
     (steps.lot_history, ("term", "lot")), (steps.lot_done, ("term", "lot")),
+    (behind.lot_behind, ("term", "lot", "step")),
+    (behind.history_behind, ("term", "history", "history")),
+    (behind.met_end, ("term", "history", "history")),
+    (behind.are_one_class, ("term", "history", "history")),
+    (behind.left_step, ("term", "history", "history")),
+    (standard.is_standard, ("small", "history")), (standard.first_fault, ("small", "history")),
+    (standard.standard_of, ("small", "history")), (all_standard_histories, ("small", "to4")),
+    (names.names_along, ("small", "history")), (names.part_name, ("small", "history", "place")),
+    (names.step_name, ("small", "history")), (names.name_height, ("small", "name")),
+    (names.letters_of, ("small", "name")), (names.inner_names, ("small", "name")),
+    (names.led_name, ("small", "beginning", "name")),
+    (lots.open_names, ("small", "history")), (lots.names_done, ("small", "history", "names")),
+    (lots.finished_names, ("small", "history")),
+    (drawn.had_without, ("small", "step", "further")), (drawn.drawn_out, ("small", "history")),
+    (drawn.is_drawn_out, ("small", "history")),
+    (drawn.are_one_piece, ("small", "history", "history")), (drawn.pieces_to, ("small", "1to4")),
+    (roots.root_step, ("term",)), (roots.root_history, ("term", "to60")),
+    (roots.last_form, ("term",)), (roots.root_length, ("term",)),
+    (roots.is_needed, ("term", "step")), (roots.needed_steps, ("term",)),
+    (roots.needless_history, ("term", "step")),
+    (numerals.numeral, ("to150",)), (numerals.numeral_of, ("term",)),
+    (numerals.sum_term, ("term", "term")), (numerals.product_term, ("term", "term")),
+    (numerals.power_term, ("term", "term")),
+    (whole.piece_history, ("small", "beginning", "name")), (whole.row_of, ("small", "history")),
+    (whole.row_history, ("small", "row")), (whole.root_pieces, ("small",)),
+    (whole.piece_rows, ("few", "to4")), (whole.fewest_pieces, ("few", "to4")),
 ]
-JUDGES = [steps.is_step, steps.is_history, steps.is_lot]
+JUDGES = [steps.is_step, steps.is_history, steps.is_lot, names.is_name]
 
 # These two have further errors for the place 5, so a right place is told for each.
 OF_A_PART = [(terms.function_of, 3), (terms.variables_of, 6)]
@@ -55,7 +103,7 @@ class Wrong(Checks):
                 for value in KINDS[kind][1]:
                     given = right[:at] + [value] + right[at + 1:]
                     error = self.check(KINDS[kind][2], function, given)
-                    if kind == "number":
+                    if KINDS[kind][2] is errors.InvalidNumber:
                         self.assertIs(error.given, value)
 
     def test_of_two_wrong_arguments_the_first_one_decides(self):
@@ -93,10 +141,38 @@ class Wrong(Checks):
                 self.assertIsInstance(judge(TWICE, value), bool)
         for value in JUNK + WRONG_TERMS:
             self.assertIs(terms.is_term(value), False)
+            self.assertIs(roots.is_last(value), False)
+
+    def test_the_judge_of_lots_of_names(self):
+        judge = lots.are_names_done
+        kinds = ("small", "history", "names")
+        right = [KINDS[kind][0] for kind in kinds]
+        for value in JUNK + WRONG_TERMS + WRONG_PLACES + WRONG_HISTORIES:
+            self.assertIsInstance(judge(*right, value), bool)
+            for at, kind in enumerate(kinds):
+                wrong = KINDS[kind][1][0]
+                given = right[:at] + [wrong] + right[at + 1:] + [value]
+                self.check(KINDS[kind][2], judge, given)
+        for at, kind in enumerate(kinds):
+            for wrong in KINDS[kind][1]:
+                given = right[:at] + [wrong] + right[at + 1:] + [None]
+                self.check(KINDS[kind][2], judge, given)
+        self.assertIs(judge(TWICE, (0, 1), NAMES, (3,)), True)
+
+    def test_a_history_without_an_aim(self):
+        for function, given in [(names.step_name, (TWICE, ())), (drawn.drawn_out, (TWICE, ())),
+                                (drawn.is_drawn_out, (TWICE, ())),
+                                (drawn.had_without, (TWICE, 0, ())),
+                                (drawn.are_one_piece, (TWICE, (), (1,))),
+                                (drawn.are_one_piece, (TWICE, (0,), ()))]:
+            self.check(errors.InvalidOperation, function, given)
+        self.check(errors.InvalidHistory, drawn.are_one_piece, (TWICE, (1,), ()))
+        self.check(errors.InvalidPlace, drawn.had_without, (TWICE, 1, ()))
 
     def test_judges_judge_the_right_values(self):
         right = {steps.is_step: [0, 5], steps.is_history: [(), (0,), (5, 0), (0, 1, 3)],
-                 steps.is_lot: [(), (0,), (5,), (0, 5)]}
+                 steps.is_lot: [(), (0,), (5,), (0, 5)],
+                 names.is_name: [NAME, ((0,),), ((9,),), ((1,), (0, 10, 2))]}
         for judge, values in right.items():
             for value in values:
                 self.assertIs(judge(TWICE, value), True)
