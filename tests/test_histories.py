@@ -1,6 +1,7 @@
 """Stage 2: histories, their ends, and rests behind them; lots."""
 
 import random
+import sys
 import unittest
 
 from oncework.errors import InvalidHistory, TooMany
@@ -224,6 +225,60 @@ class LotLimits(unittest.TestCase):
         self.refused(call * 60 + GROWS_TOO_LONG, steps_of(call * 60 + GROWS_TOO_LONG), 60)
         self.refused(call * 59 + RAISES_TOO_HIGH, steps_of(call * 59 + RAISES_TOO_HIGH), 1000)
         self.refused(call * 60 + RAISES_TOO_HIGH, steps_of(call * 60 + RAISES_TOO_HIGH), 60)
+
+
+def lines_run(function, *given):
+    """How many lines of Python a call runs: unlike its time, always the same."""
+    many = 0
+
+    def trace(frame, event, argument):
+        nonlocal many
+        many += event == "line"
+        return trace
+
+    before = sys.gettrace()
+    sys.settrace(trace)
+    try:
+        function(*given)
+    except TooMany:
+        pass
+    finally:
+        sys.settrace(before)
+    return many
+
+
+class LongLots(unittest.TestCase):
+    """Lots of sixty steps in long terms: where each of many steps changes few parts."""
+
+    EDGE = (0, -1) + (0,) * 58 + (1,) * 59 + (0, -1, 1, -1, 1)
+    LONGER = (0, -1) + (0,) * 59 + (1,) * 60 + (0, -1, 1, -1, 1)
+    NESTED = ((0,) + I) * 60 + (-1,) * 219 + (1,)
+
+    def test_sixty_steps(self):
+        lot = (0, len(self.EDGE) - 5)
+        self.assertEqual(lot_done(self.EDGE, lot), (0,) * 58 + I * 59)
+        self.assertEqual(lot_history(self.EDGE, lot), (0,) + tuple(range(58, 175, 2)))
+        self.assertIs(is_history(self.EDGE, lot_history(self.EDGE, lot)), True)
+
+    def test_one_step_more(self):
+        lot = (0, len(self.LONGER) - 5)
+        for tell in (lot_history, lot_done):
+            with self.assertRaises(TooMany) as caught:
+                tell(self.LONGER, lot)
+            self.assertEqual(caught.exception.limit, 60)
+
+    def test_steps_one_in_the_argument_of_the_other(self):
+        lot = steps_of(self.NESTED)
+        self.assertEqual(len(lot), 60)
+        self.assertEqual(lot_history(self.NESTED, lot), (0,) * 60)
+        self.assertEqual(lot_done(self.NESTED, lot), (-1,) * 219 + (1,))
+
+    def test_a_step_does_not_go_through_the_whole_term(self):
+        # Each of the sixty steps but the first one changes five parts of about three hundred.
+        one = lines_run(step_done, self.EDGE, 0)
+        for tell in (lot_history, lot_done):
+            self.assertLess(lines_run(tell, self.EDGE, (0, len(self.EDGE) - 5)), 6 * one)
+            self.assertLess(lines_run(tell, self.LONGER, (0, len(self.LONGER) - 5)), 6 * one)
 
 
 def some_steps(rng, term):
