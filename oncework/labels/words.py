@@ -64,10 +64,10 @@ class Book:
         """The number of a word that is told by a tuple with the numbers of this book."""
         if len(word) > self.most:
             return TOO_LONG
-        if word not in self.numbers:
-            self.numbers[word] = len(self.words)
+        number = self.numbers.setdefault(word, len(self.words))
+        if number == len(self.words):
             self.words.append(word)
-        return self.numbers[word]
+        return number
 
     def joined(self, number, way, sign, other):
         """The number of a word, a sign, and another word; `way` is 0 for over, 1 for under."""
