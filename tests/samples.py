@@ -41,6 +41,29 @@ FORTY_ONE = (0,) + COPY + (-1,) * 35 + (1,)
 # level, done from the root more than sixty.
 LEVELS = ((0,) + COPY) * 7 + I
 
+# In each round a function that gives back its argument is made of the one before, and
+# the word of its variable becomes twice as long.
+BOTH_TIMES = (-1, -1, 0, 2, 0, 2, 1)
+DOUBLING = (0, -1, 0, 0, 1, 1) + I + (-1, -1, 0, 0, 0, 2, 2, 0) + BOTH_TIMES + (
+    1, 0, 0, 1) + I + (1,)
+
+
+def doubling_history(rounds):
+    """Two steps go on, three more make the function that does all of it twice again."""
+    history = (0, 1, 0, 47, 48, 48)
+    for done in range(1, rounds):
+        history += (done + 1, done, done + 47, done + 48, done + 48)
+    return history
+
+
+# Terms with just so many steps of whole pieces from the root to the last form.
+SIXTY_BY_PIECES = (0, -1, 0, -1, 0, 1, 0, 1, -1, 1, 0, -1, 0, 1, 1, 1, -1, 0, 1, 0, -1, 0, -1, 1, 1,
+                   0, -1, 0, 1, 1, 0, 1, 2)
+
+# The second step is new, and makes a term of just 400 parts; or of more.
+NEW_TO_400 = (0, -1, 0, 1) + (0,) * 9 + (1,) * 10 + (-1, -1, 0, 0, 0, 2, 2, 2, 2)
+NEW_ABOVE_400 = (0, -1, 0, 1) + (0,) * 9 + (1,) * 10 + (-1, -1, -1, 0, 0, 0, 3, 3, 3, 3)
+
 WORKED = [I, COPY, TWICE, CHAIN, LOOP, DEEP, (1,), (1000,), (0, 3, 3), RAISES]
 
 

@@ -12,8 +12,8 @@ from oncework.ground.steps import end_of, is_history, rests_behind, step_done, s
 from oncework.labels.names import step_name
 from oncework.pieces import drawn as module
 from oncework.pieces.drawn import are_one_piece, drawn_out, had_without, is_drawn_out, pieces_to
-from samples import (CHAIN, COPY, FORTY, FORTY_ONE, I, LEVELS, LOOP, RAISES_TOO_HIGH,
-                     RAISES_WHAT_DROPS, TWICE, lively_terms, some_history)
+from samples import (CHAIN, COPY, FORTY, FORTY_ONE, I, LEVELS, LOOP, NEW_ABOVE_400, NEW_TO_400,
+                     RAISES, RAISES_TOO_HIGH, RAISES_WHAT_DROPS, TWICE, lively_terms, some_history)
 
 # Terms with just so many histories of at most four steps.
 HISTORIES_500 = (0, -1, 0, -1, 0, 0, 1, 1, 2, 0, -1, 0, -1, 0, 1, -1, 1, 1, 1, 0, -1, 1, -1, 1)
@@ -421,6 +421,13 @@ class PiecesTo(Checks):
     def test_histories_that_are_not_let_are_none(self):
         self.assertEqual(pieces_to(RAISES_TOO_HIGH, 4), ())
         self.assertEqual(pieces_to(RAISES_WHAT_DROPS, 1), ((4,),))
+        self.assertEqual(pieces_to(NEW_ABOVE_400, 2), ((0,), (0, 19)))
+        self.assertEqual(pieces_to((0, 1) + NEW_TO_400, 2), ((2,), (2, 20)))
+
+    def test_just_400_parts_and_1000(self):
+        self.assertEqual(len(end_of(NEW_TO_400, (0, 0))), 400)
+        self.assertEqual(pieces_to(NEW_TO_400, 2), ((0,), (0, 0), (0, 18)))
+        self.assertEqual(pieces_to(RAISES, 4), ((0,),))
 
     def test_500_histories_and_501(self):
         for term, many in [(HISTORIES_500, 500), (HISTORIES_501, 501)]:
@@ -434,7 +441,9 @@ class PiecesTo(Checks):
 
     def test_the_error_of_the_first_history_that_raises_one(self):
         # The step at 4 makes (4, 0) a history, whose standard one would make 1001.
-        self.assertEqual(pieces_to(RAISES_WHAT_DROPS, 2), ((0,), (4,)))
+        for most in (2, 3, 4):
+            # No step goes on behind (4, 0), so nothing is drawn out there.
+            self.assertEqual(pieces_to(RAISES_WHAT_DROPS, most), ((0,), (4,)))
         term = (0, -1, 1) + RAISES_WHAT_DROPS
         self.refused(1000, pieces_to, term, 3)
         self.assertEqual(len(pieces_to(term, 2)), 3)

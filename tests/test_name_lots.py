@@ -10,8 +10,8 @@ from oncework.ground.steps import end_of, is_history, lot_history, step_done, st
 from oncework.labels import lots as module
 from oncework.labels.lots import are_names_done, finished_names, names_done, open_names
 from oncework.labels.names import part_name, step_name
-from samples import (COPY, FORTY, FORTY_ONE, I, JUNK, LOOP, RAISES_TOO_HIGH, TWICE,
-                     WRONG_LOTS_OF_NAMES, lively_terms, some_history)
+from samples import (COPY, DOUBLING, FORTY, FORTY_ONE, I, JUNK, LOOP, RAISES_TOO_HIGH, TWICE,
+                     WRONG_LOTS_OF_NAMES, doubling_history, lively_terms, some_history)
 
 ONE, SIX = ((1,),), ((6,),)
 THIRD = ((1,), (6,), (3, 11, 5, 12, 7, 13, 8))
@@ -318,6 +318,26 @@ class Finished(Checks):
         self.assertIs(are_names_done(LOOP, (0,) * (longest - 1), (last,), (0,)), True)
         self.assertIs(are_names_done(LOOP, (0,) * longest, (last,), (0,)), False)
         self.assertIs(are_names_done(LOOP, (0,) * 55, (last,), ()), True)
+
+
+    def test_steps_whose_words_are_too_long_beside_others(self):
+        history = doubling_history(9)[:43]
+        now = end_of(DOUBLING, history)
+        place = [at for at in steps_of(now) if now[at:at + 5] == (0, -1, 1) + I][0]
+        history += (place,)
+        self.refused(2000, open_names, DOUBLING, history)
+        told = meanings.step_names(DOUBLING, history)
+        long = [at for at in told if sum(map(len, told[at])) > 2000]
+        self.assertEqual(long, [place - 1])
+        other = max(told)
+        self.assertEqual(names_done(DOUBLING, history, (told[other],)),
+                         meanings.lot_of_names(DOUBLING, history, (told[other],)))
+        self.assertIs(are_names_done(DOUBLING, history, (told[other],), (place - 1,)), False)
+        wanted = {meanings.step_name(DOUBLING, history[:count + 1])
+                  for count in range(len(history))}
+        self.assertEqual(finished_names(DOUBLING, history),
+                         tuple(sorted(wanted - set(told.values()))))
+        self.refused(2000, finished_names, DOUBLING, history + (place - 1,))
 
 
 class Names(Checks):

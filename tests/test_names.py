@@ -12,8 +12,8 @@ from oncework.ground.steps import (end_of, is_step, origins, rests_behind, step_
 from oncework.labels import names as module
 from oncework.labels.names import (inner_names, is_name, led_name, letters_of, name_height,
                                    names_along, part_name, step_name)
-from samples import (CHAIN, COPY, FORTY, FORTY_ONE, I, LOOP, TWICE, WRONG_NAMES, lively_terms,
-                     some_history)
+from samples import (CHAIN, COPY, DOUBLING, FORTY, FORTY_ONE, I, LOOP, TWICE, WRONG_NAMES,
+                     doubling_history, lively_terms, some_history)
 
 FIFTH = ((1,), (6,), (3, 11, 5, 12, 7, 13, 8))
 
@@ -406,20 +406,53 @@ class Limits(unittest.TestCase):
         name = ((0,), (0,) + (1, 0) * 900, (0, 3, 0))
         self.refused(led_name, CHAIN, (0, 0), name)
 
-    def test_words_that_double_each_time_do_not_take_long(self):
-        levels = ((0,) + COPY) * 6 + I
-        history = ()
-        now = levels
-        while steps_of(now):
-            history += (max(steps_of(now)),)
-            now = step_done(now, history[-1])
-        self.assertEqual(now, I)
-        words = meanings.words_along(levels, history)
-        name = meanings.tell(len(levels), words[0])
-        if size(name) <= 2000:
-            self.assertEqual(part_name(levels, history, 0), name)
-        else:
-            self.refused(part_name, levels, history, 0)
+    def compare_all(self, term, history):
+        """Compares the names of all parts of the end, and returns how many are too long."""
+        refused = 0
+        for place, word in enumerate(meanings.words_along(term, history)):
+            name = meanings.tell(len(term), word)
+            if size(name) <= 2000:
+                self.assertEqual(part_name(term, history, place), name)
+            else:
+                self.refused(part_name, term, history, place)
+                refused += 1
+        return refused
+
+    def test_words_that_become_twice_as_long_each_time(self):
+        for rounds in (5, 7, 8, 9, 11):
+            refused = self.compare_all(DOUBLING, doubling_history(rounds))
+            self.assertEqual(refused > 0, rounds > 7)
+        longest = [max(map(len, meanings.words_along(DOUBLING, doubling_history(rounds))))
+                   for rounds in (7, 8, 9)]
+        self.assertEqual(longest, [1017, 2041, 4089])
+
+    def test_a_step_whose_own_word_is_too_long(self):
+        # The function that the latest round made gives back a function, which is then called.
+        history = doubling_history(9)[:43]
+        now = end_of(DOUBLING, history)
+        place = [at for at in steps_of(now) if now[at:at + 5] == (0, -1, 1) + I][0]
+        history += (place,)
+        self.assertEqual(step_name(DOUBLING, history), meanings.step_name(DOUBLING, history))
+        self.assertGreater(self.compare_all(DOUBLING, history), 1)
+        further = history + (place - 1,)
+        self.refused(step_name, DOUBLING, further)
+        self.assertGreater(self.compare_all(DOUBLING, further), 1)
+        self.assertEqual(part_name(DOUBLING, further, 0), meanings.part_names(DOUBLING, further)[0])
+
+    def test_a_name_led_to_a_word_that_is_too_long(self):
+        history = doubling_history(8)
+        words = meanings.words_along(DOUBLING, history)
+        long = [at for at, word in enumerate(words) if len(word) > 2000][0]
+        letters = len(words)
+        short = [at for at, word in enumerate(words) if len(word) == 1][:3]
+        for name in [((long,),), ((long,), (short[0], letters, short[1])),
+                     ((short[0],), (long, letters, short[1])),
+                     ((short[0],), (short[1], letters + 1, long)),
+                     ((long,), (short[0], letters, short[0]), (short[1], letters + 3, short[1]))]:
+            self.refused(led_name, DOUBLING, history, name)
+        name = ((short[0],), (short[1], letters + 1, short[2]))
+        word = meanings.led(meanings.read_name(letters, name), words)
+        self.assertEqual(led_name(DOUBLING, history, name), meanings.tell(30, word))
 
     def test_the_order_of_the_errors(self):
         long = (0,) * 60

@@ -13,8 +13,8 @@ from oncework.pieces import whole as module
 from oncework.pieces.roots import last_form, root_length
 from oncework.pieces.whole import (fewest_pieces, piece_history, piece_rows, root_pieces,
                                    row_history, row_of)
-from samples import (CHAIN, COPY, FORTY, FORTY_ONE, I, LOOP, RAISES_TOO_HIGH, TWICE, WRONG_ROWS,
-                     lively_terms, some_history)
+from samples import (CHAIN, COPY, FORTY, FORTY_ONE, I, LOOP, RAISES_TOO_HIGH, SIXTY_BY_PIECES,
+                     TWICE, WRONG_ROWS, lively_terms, some_history)
 
 ONE, SIX = ((1,),), ((6,),)
 THIRD = ((1,), (6,), (3, 11, 5, 12, 7, 13, 8))
@@ -285,6 +285,11 @@ class Root(Checks):
     def test_plain_steps_can_be_more_or_fewer_than_pieces(self):
         self.assertEqual((len(root_pieces(TWICE)), root_length(TWICE)), (3, 4))
         self.assertEqual(len(row_history(TWICE, root_pieces(TWICE))), 4)
+
+    def test_sixty_steps_and_sixty_one(self):
+        row = root_pieces(SIXTY_BY_PIECES)
+        self.assertEqual((len(row), len(row_history(SIXTY_BY_PIECES, row))), (9, 60))
+        self.refused(60, root_pieces, (0, -1, 1) + SIXTY_BY_PIECES)
 
     def test_errors_along_the_row(self):
         self.refused(2000, root_pieces, LOOP)
