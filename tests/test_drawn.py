@@ -187,6 +187,18 @@ class Without(Checks):
         with self.assertRaises(InvalidHistory):
             had_without((0, -1, -1, 0, 2) + LOOP + (1000,), 0, (3,))
 
+    def test_a_step_that_makes_more_than_400_parts(self):
+        # No term of at most 40 parts has such a step, but one on the way can have it.
+        term = (0,) + COPY + (0,) + LOOP + (-1,) * 250 + (1,)
+        self.assertGreater(len(meanings.step(term, 0)), 400)
+        for history in [(2,), (2, 2), (263, 263, 263), (2, 263)]:
+            self.assertEqual(module.told_without(term, 0, history),
+                             meanings.had_without(term, 0, history))
+        self.assertEqual(module.told_without(term, 0, (263, 263)), (6, 6))
+        self.assertEqual(max([len(meanings.step(small, 0)) for small in [
+            (0, -1) + (0,) * (uses - 1) + (1,) * uses + (-1,) * (38 - 2 * uses) + (1,)
+            for uses in range(1, 19)]]), 199)
+
     def test_what_is_told_can_pass_greater_terms(self):
         # Each step of the last part makes it longer by seven parts.
         function = (-1, 0, 0, 1, 1, 1)
