@@ -204,3 +204,24 @@ def some_history(rng, term, most):
             break
         history += (place,)
     return history
+
+
+# A walk through LOOP can go on for ever; a balanced one of 399 integers, which sticks.
+AROUND = (2, 3, 4, -2, 6, -8, 9, -6)
+WALK_400 = AROUND * 50
+WALK_401 = WALK_400 + (2,)
+BALANCED_399 = (8, -6, 2, -5, 4, -2, 6) + (-9, 8, -6, 2, -4, 5, -2, 6) * 48 + (
+    -8, 9, -6, 2, -4, 5, -2, 6)
+
+DOUBLE = (0, -1, 0, 1, 1, -1, 1)
+
+# None of these is a walk of TWICE, of what one of its steps makes, or of a term behind these.
+WRONG_WALKS = JUNK + [
+    0, 2, 7, [2], [7], (1,), (-1,), (-2,), (3,), (-7,), (11,), (-11,), (100,), (2, 2), (2, 1),
+    (2, True), (2, False), (True, 2), (2, None), (2, "3"), (2, (3,)), (2, [3]), (2, 10 ** 60),
+    (2, 3, 4, 5), (2, -4, -3, 2), (2,) * 400, (2,) * 5000, ((2,),), ((2,), (7,)),
+]
+WRONG_PATHS = JUNK + [
+    0, 1, [0], [], (-1,), (0, -1), (0, True), (False, 0), (0, (1,)), (0, [1]), (0, 10 ** 60),
+    (0,) * 13, (0,) * 5000,
+]
