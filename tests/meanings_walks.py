@@ -435,3 +435,32 @@ def reader_at(term, path):
         reader.turn(index)
         reader.read()
     return reader
+
+
+def read_form(term):
+    """The last form put together of all fronts, or the limit of the first error [13.6]."""
+    form = []
+
+    def visit(path):
+        if len(path) > 12:
+            return 12
+        try:
+            reader = reader_at(term, path)
+        except meanings.TooBig:
+            return 4000
+        if reader.gone > 4000:
+            return 4000
+        k, n, m = reader.front()
+        form.extend([-1] * k + [0] * m + [n])
+        if len(form) > 400:
+            return 400
+        for index in range(m):
+            limit = visit(path + (index,))
+            if limit is not None:
+                return limit
+        return None
+
+    limit = visit(())
+    if limit is None and max(form) > 1000:
+        limit = 1000
+    return tuple(form) if limit is None else limit
