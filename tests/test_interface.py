@@ -13,6 +13,12 @@ CONSTANTS = {
     "oncework.pieces.roots": {"MOST_ROOT_STEPS": 60},
     "oncework.pieces.numerals": {"MAX_NUMERAL": 150},
     "oncework.pieces.whole": {"MAX_FEW_PARTS": 12, "MAX_FEW": 4},
+    "oncework.paths.walks": {"MAX_EDGES": 400, "MOST_EDGES": 24, "MOST_WALKS": 500},
+    "oncework.paths.made": {"MAX_LED": 2000},
+    "oncework.paths.reader": {"MAX_GONE": 4000, "MAX_ASKED": 12},
+    "oncework.bench.bench": {"MOST_STEPS": 60, "MOST_DEEDS": 40, "MOST_ORDER": 60},
+    "oncework.prose.texts": {"MAX_TEXT": 20000},
+    "oncework.prose.shell": {"MAX_LINE": 2000, "MOST_LINES": 40},
 }
 FUNCTIONS = {
     "oncework.ground.terms": {
@@ -65,6 +71,39 @@ FUNCTIONS = {
         "row_history": "term row", "root_pieces": "term", "piece_rows": "term most",
         "fewest_pieces": "term most",
     },
+    "oncework.paths.walks": {
+        "is_walk": "term value", "walk_end": "term walk", "next_edges": "term walk",
+        "is_balanced": "term value", "balanced_walks": "term most", "name_of_walk": "term walk",
+        "walk_of_name": "term name",
+    },
+    "oncework.paths.weights": {
+        "sticking_index": "term walk", "does_pass": "term walk", "stack_sizes": "term walk index",
+        "first_log": "term walk",
+    },
+    "oncework.paths.made": {
+        "led_walk": "term place walk", "led_along": "term history walk",
+        "walk_of_step": "term history", "used_steps": "term walk", "history_of_walk": "term walk",
+    },
+    "oncework.paths.reader": {
+        "read_front": "term", "read_at": "term path", "edges_gone": "term path",
+        "read_form": "term",
+    },
+    "oncework.bench.log": {"log_text": "bench", "read_log": "text"},
+    "oncework.prose.texts": {
+        "write_term": "term", "read_term": "text", "write_row": "value", "read_row": "text",
+        "write_rows": "value", "read_rows": "text",
+    },
+}
+# For each class what its object takes, its methods, and its properties.
+CLASSES = {
+    "oncework.bench.bench": ("Bench", "term", {
+        "do": "place", "do_piece": "place", "run": "order", "undo": "deeds", "joined": "other",
+        "name_here": "place", "pieces_met": "", "shortest": "place", "twin": "",
+        "__contains__": "value", "__len__": "", "__bool__": "", "__eq__": "other", "__str__": "",
+    }, ("first_term", "term_now", "history", "deeds")),
+    "oncework.prose.shell": ("Shell", "bench", {
+        "say": "line", "tell": "lines", "__str__": "",
+    }, ("said",)),
 }
 
 
@@ -85,6 +124,22 @@ class Interface(unittest.TestCase):
                 for parameter in told.values():
                     self.assertEqual(parameter.kind, parameter.POSITIONAL_OR_KEYWORD)
                     self.assertIs(parameter.default, parameter.empty)
+
+    def test_classes_and_their_own_methods(self):
+        for module, (name, taken, methods, properties) in CLASSES.items():
+            made = getattr(importlib.import_module(module), name)
+            self.assertEqual(made.__module__, module)
+            self.assertEqual(list(inspect.signature(made).parameters), [taken])
+            for method, parameters in methods.items():
+                told = list(inspect.signature(made.__dict__[method]).parameters.values())[1:]
+                self.assertEqual(" ".join([parameter.name for parameter in told]), parameters)
+                for parameter in told:
+                    by_keyword = (name, method) == ("Bench", "undo")
+                    self.assertEqual(parameter.kind, parameter.KEYWORD_ONLY if by_keyword
+                                     else parameter.POSITIONAL_OR_KEYWORD)
+                    self.assertEqual(parameter.default, 1 if by_keyword else parameter.empty)
+            for told in properties:
+                self.assertIsInstance(made.__dict__[told], property)
 
     def test_the_generator(self):
         standard = importlib.import_module("oncework.ground.standard")

@@ -5,11 +5,14 @@ import unittest
 from oncework import errors
 from oncework.ground import behind, standard, steps, terms
 from oncework.labels import lots, names
+from oncework.paths import made, reader, walks, weights
 from oncework.pieces import drawn, numerals, roots, whole
-from samples import (GROWS_BOTH_WAYS, GROWS_TOO_LONG, I, JUNK, LONG, LOOP, NAME, NAMES,
-                     RAISES_TOO_HIGH, TWICE, WRONG_COUNTS, WRONG_FEW_TERMS, WRONG_HISTORIES,
-                     WRONG_LOTS, WRONG_LOTS_OF_NAMES, WRONG_NAMES, WRONG_NUMBERS, WRONG_PLACES,
-                     WRONG_ROWS, WRONG_SMALL_TERMS, WRONG_STEPS, WRONG_TERMS)
+from oncework.prose import texts
+from samples import (BALANCED_399, GROWS_BOTH_WAYS, GROWS_TOO_LONG, I, JUNK, LONG, LOOP, NAME, NAMES,
+                     RAISES_TOO_HIGH, TWICE, WALK_400, WALK_401, WRONG_COUNTS, WRONG_FEW_TERMS,
+                     WRONG_HISTORIES, WRONG_LOTS, WRONG_LOTS_OF_NAMES, WRONG_NAMES, WRONG_NUMBERS,
+                     WRONG_PATHS, WRONG_PLACES, WRONG_ROWS, WRONG_SMALL_TERMS, WRONG_STEPS,
+                     WRONG_TERMS, WRONG_WALKS)
 
 # For each kind of parameter a right value for TWICE, the wrong ones, and their error.
 KINDS = {
@@ -31,6 +34,12 @@ KINDS = {
     "1to4": (2, WRONG_COUNTS + [0, 5], errors.InvalidNumber),
     "to60": (7, WRONG_COUNTS, errors.InvalidNumber),
     "to150": (7, [value for value in WRONG_COUNTS if value != 61], errors.InvalidNumber),
+    "1to24": (5, WRONG_COUNTS + [0, 25], errors.InvalidNumber),
+    "walk": ((2,), WRONG_WALKS, errors.InvalidWalk),
+    "balanced": ((2,), WRONG_WALKS + [(4,), (4, -2), (4, -2, 6, 7)], errors.InvalidWalk),
+    "index": (0, WRONG_COUNTS + [1], errors.InvalidNumber),
+    "path": ((), [value for value in WRONG_PATHS if value not in ((0, 0), (10 ** 60 - 1,))],
+             errors.InvalidOperation),
 }
 
 
@@ -77,8 +86,20 @@ FUNCTIONS = [
     (whole.piece_history, ("small", "beginning", "name")), (whole.row_of, ("small", "history")),
     (whole.row_history, ("small", "row")), (whole.root_pieces, ("small",)),
     (whole.piece_rows, ("few", "to4")), (whole.fewest_pieces, ("few", "to4")),
+    (walks.walk_end, ("small", "walk")), (walks.next_edges, ("small", "walk")),
+    (walks.balanced_walks, ("small", "1to24")), (walks.name_of_walk, ("small", "walk")),
+    (walks.walk_of_name, ("small", "name")),
+    (weights.sticking_index, ("small", "walk")), (weights.does_pass, ("small", "walk")),
+    (weights.stack_sizes, ("small", "walk", "index")), (weights.first_log, ("small", "walk")),
+    (made.led_walk, ("small", "step", "walk")), (made.led_along, ("small", "history", "walk")),
+    (made.walk_of_step, ("small", "history")), (made.used_steps, ("small", "walk")),
+    (made.history_of_walk, ("small", "balanced")),
+    (reader.read_front, ("small",)), (reader.read_at, ("small", "path")),
+    (reader.edges_gone, ("small", "path")), (reader.read_form, ("small",)),
+    (texts.write_term, ("term",)),
 ]
 JUDGES = [steps.is_step, steps.is_history, steps.is_lot, names.is_name]
+SMALL_JUDGES = [walks.is_walk, walks.is_balanced]
 
 # These two have further errors for the place 5, so a right place is told for each.
 OF_A_PART = [(terms.function_of, 3), (terms.variables_of, 6)]
@@ -132,11 +153,11 @@ class Wrong(Checks):
         self.check(errors.InvalidOperation, terms.variables_of, (TWICE, 9))
 
     def test_functions_that_judge_accept_every_value(self):
-        for judge in JUDGES:
-            for value in WRONG_TERMS:
-                for judged in (0, (), (0,), None, True):
+        for judge in JUDGES + SMALL_JUDGES:
+            for value in WRONG_TERMS if judge in JUDGES else WRONG_SMALL_TERMS:
+                for judged in (0, (), (0,), (2,), None, True):
                     self.check(errors.InvalidTerm, judge, (value, judged))
-            for value in JUNK + WRONG_TERMS + WRONG_PLACES:
+            for value in JUNK + WRONG_TERMS + WRONG_PLACES + WRONG_WALKS:
                 self.assertIn(judge(TWICE, value), (True, False))
                 self.assertIsInstance(judge(TWICE, value), bool)
         for value in JUNK + WRONG_TERMS:
@@ -172,7 +193,9 @@ class Wrong(Checks):
     def test_judges_judge_the_right_values(self):
         right = {steps.is_step: [0, 5], steps.is_history: [(), (0,), (5, 0), (0, 1, 3)],
                  steps.is_lot: [(), (0,), (5,), (0, 5)],
-                 names.is_name: [NAME, ((0,),), ((9,),), ((1,), (0, 10, 2))]}
+                 names.is_name: [NAME, ((0,),), ((9,),), ((1,), (0, 10, 2))],
+                 walks.is_walk: [(2,), (2, 3), (4, -2, 6), (7,)],
+                 walks.is_balanced: [(2,), (7,), (4, -2, 6, 7, 8, -7, 9)]}
         for judge, values in right.items():
             for value in values:
                 self.assertIs(judge(TWICE, value), True)
@@ -186,6 +209,11 @@ class Wrong(Checks):
         self.check(errors.InvalidLot, steps.lot_done, (TWICE, []))
         self.assertIs(steps.is_history(TWICE, []), False)
         self.assertIs(steps.is_lot(TWICE, []), False)
+        self.check(errors.InvalidWalk, walks.walk_end, (TWICE, [2]))
+        self.check(errors.InvalidWalk, made.history_of_walk, (TWICE, [2]))
+        self.check(errors.InvalidOperation, reader.read_at, (TWICE, []))
+        self.assertIs(walks.is_walk(TWICE, [2]), False)
+        self.assertIs(walks.is_balanced(TWICE, [2]), False)
 
     def test_booleans_are_no_integers(self):
         self.check(errors.InvalidTerm, terms.part_end, ((0, True, 1), 0))
@@ -225,6 +253,23 @@ class Then(Checks):
             self.check(errors.InvalidLot, steps.lot_done, (term, (0, 0)))
             self.check(errors.InvalidLot, steps.lot_history, (term, (0, 1)))
             self.check(errors.InvalidHistory, steps.rests_behind, (term, (0,), None))
+
+    def test_errors_of_walks_behind_earlier_ones(self):
+        # The index comes ahead of where the machine sticks, the walk ahead of the index.
+        self.check(errors.InvalidNumber, weights.stack_sizes, (LOOP, WALK_400, 400))
+        self.check(errors.InvalidOperation, weights.stack_sizes, (LOOP, WALK_400, 399))
+        self.check(errors.InvalidWalk, weights.stack_sizes, (LOOP, WALK_401, 400))
+        self.check(errors.InvalidHistory, made.led_along, (LOOP, (1,), WALK_401))
+        self.check(errors.InvalidWalk, made.led_along, (LOOP, (0,), WALK_401))
+        self.check(errors.InvalidWalk, made.history_of_walk, (LOOP, WALK_400))
+        self.assertIsNone(made.history_of_walk(LOOP, BALANCED_399))
+        long = ((0,),) + tuple([(0, 9 + 2 * k, 0, 9 + 2 * k, 0) for k in range(9)])
+        self.check(errors.TooMany, walks.walk_of_name, (LOOP, long))
+        self.check(errors.InvalidName, walks.walk_of_name, (LOOP, long + (long[-1],)))
+        self.check(errors.InvalidTerm, walks.walk_of_name, (LOOP + LOOP, long))
+        self.check(errors.InvalidOperation, reader.read_at, (LOOP, (0,) * 13))
+        self.check(errors.TooMany, reader.read_at, (LOOP, (0,)))
+        self.check(errors.InvalidNumber, reader.read_at, (TWICE, (0,)))
 
     def test_the_limit_is_kept(self):
         for function, given, limit in [
