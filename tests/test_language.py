@@ -24,6 +24,7 @@ BARRED_NAMES = set("""register mro elements open input law version_info with_tra
     help id importlib license locals methodcaller os quit vars""".split())
 BARRED_NODES = (ast.AsyncFunctionDef, ast.AsyncFor, ast.AsyncWith, ast.Await, ast.Div, ast.MatMult,
                 ast.Import, ast.TryStar)
+LET_METHODS = ("__init__", "__eq__", "__str__", "__len__", "__bool__", "__contains__")
 LIBRARY = ("heapq", "math", "itertools", "collections")
 
 
@@ -57,6 +58,20 @@ def defined_names(tree):
         elif isinstance(node, ast.Assign):
             names.append(node.targets[0].id)
     return names
+
+
+def classes():
+    """All classes of the package."""
+    return [node for tree in TREES.values() for node in tree.body if isinstance(node, ast.ClassDef)]
+
+
+def methods_of(made):
+    return [node for node in made.body if isinstance(node, ast.FunctionDef)]
+
+
+def is_property(function):
+    return [ast.dump(node) for node in function.decorator_list] == [ast.dump(
+        ast.parse("property", mode="eval").body)]
 
 
 def strings_without_docstrings(tree):
@@ -157,6 +172,58 @@ class Statements(unittest.TestCase):
             for text in strings_without_docstrings(tree):
                 self.assertNotIn("%", text, path)
                 self.assertNotIn("__", text, path)
+
+
+class Classes(unittest.TestCase):
+
+    def test_bodies_have_methods_alone_and_decorators_are_properties(self):
+        for made in classes():
+            self.assertEqual(made.decorator_list, [])
+            for node in made.body[1:] if isinstance(made.body[0], ast.Expr) else made.body:
+                self.assertIsInstance(node, ast.FunctionDef, made.name)
+                self.assertTrue(not node.decorator_list or is_property(node), node.name)
+                if node.name.startswith("__"):
+                    self.assertIn(node.name, LET_METHODS)
+        for tree in TREES.values():
+            for node in tree.body:
+                if isinstance(node, ast.FunctionDef):
+                    self.assertEqual(node.decorator_list, [], node.name)
+
+    def test_no_name_is_a_method_and_an_attribute(self):
+        methods = {node.name for made in classes() for node in methods_of(made)}
+        attributes = {node.attr for tree in TREES.values() for node in ast.walk(tree)
+                      if isinstance(node, ast.Attribute) and isinstance(node.ctx, ast.Store)}
+        self.assertEqual(methods & attributes, set())
+        self.assertTrue({"run", "history"} <= methods)
+        builtin = {name for value in ("", 0, [], {}, set(), (), b"") for name in dir(value)}
+        self.assertEqual(attributes & builtin, set())
+        self.assertEqual({name for name in methods & builtin if not name.startswith("__")}, set())
+
+    def test_no_generator_expression_and_no_sort_beside_a_class_with_eq(self):
+        for path, tree in TREES.items():
+            for node in ast.walk(tree):
+                self.assertNotIsInstance(node, ast.GeneratorExp, path)
+                if isinstance(node, ast.Attribute):
+                    self.assertNotEqual(node.attr, "sort", path)
+
+    def test_what_operators_and_properties_return(self):
+        for made in classes():
+            for function in methods_of(made):
+                if function.name == "__len__":
+                    self.assertEqual(function.body[-1].value.func.id, "len")
+                elif function.name == "__str__":
+                    self.assertIsInstance(function.body[-1].value, ast.JoinedStr)
+                if is_property(function) or function.name in LET_METHODS[1:]:
+                    for node in ast.walk(function):
+                        self.assertNotIsInstance(node, (ast.Assign, ast.AugAssign, ast.Delete))
+
+    def test_errors_of_python_itself_are_not_caught(self):
+        for path, tree in TREES.items():
+            for node in ast.walk(tree):
+                if isinstance(node, ast.ExceptHandler):
+                    caught = node.type.elts if isinstance(node.type, ast.Tuple) else [node.type]
+                    for error in caught:
+                        self.assertFalse(hasattr(builtins, error.id), path)
 
 
 class Imports(unittest.TestCase):

@@ -63,48 +63,43 @@ class Bench:
         self._done = []
         self._stands = [Stand(run_along(term, ()), (), ())]
 
-    def _check_room(self):
-        """Refuse a 41st deed."""
+    def _begin(self):
+        """A run that a deed can go on with, refusing a 41st deed."""
         if len(self._done) == MOST_DEEDS:
             raise TooMany(MOST_DEEDS)
+        return self._stands[-1].now.twin()
 
     def _keep(self, deed, run, places, numbers):
         """Keeps a deed that a run has done, and returns how many steps the history has."""
         stand = self._stands[-1]
         self._done.append(deed)
         self._stands.append(Stand(run, stand.places + tuple(places), stand.numbers + tuple(numbers)))
-        return len(self._stands[-1].places)
+        return len(self)
 
     def do(self, place):
         """Does the step."""
-        stand = self._stands[-1]
-        check_step(stand.now.parts, place)
-        self._check_room()
-        run = stand.now.twin()
+        check_step(self._stands[-1].now.parts, place)
+        run = self._begin()
         number = run.words[place + 1]
-        do_next(run, place, len(stand.places))
+        do_next(run, place, len(self))
         return self._keep(("do", place), run, [place], [number])
 
     def do_piece(self, place):
         """Does the whole piece of the step."""
-        stand = self._stands[-1]
-        check_step(stand.now.parts, place)
-        self._check_room()
-        run = stand.now.twin()
+        check_step(self._stands[-1].now.parts, place)
+        run = self._begin()
         number = run.words[place + 1]
         # A word that is too long is no name, so no step has it.
         told_name(run.book, number)
-        places = do_wanted(run, {number: True}, len(stand.places))
+        places = do_wanted(run, {number: True}, len(self))
         return self._keep(("piece", place), run, places, [number] * len(places))
 
     def run(self, order):
         """Does a step for each integer of the order, as long as there is one."""
         check_order(order)
-        stand = self._stands[-1]
-        if first_step(stand.now.parts, 0) is None:
+        if first_step(self._stands[-1].now.parts, 0) is None:
             raise InvalidOperation("the term now has no step")
-        self._check_room()
-        run = stand.now.twin()
+        run = self._begin()
         places = []
         numbers = []
         for index in order:
@@ -113,7 +108,7 @@ class Bench:
                 break
             place = steps[index % len(steps)]
             numbers.append(run.words[place + 1])
-            do_next(run, place, len(stand.places) + len(places))
+            do_next(run, place, len(self) + len(places))
             places.append(place)
         return self._keep(("run", order[:len(places)]), run, places, numbers)
 
