@@ -27,6 +27,9 @@ SIXTY = (0, 0, -1, 0, 1, 0, -1, 0, 1, 0, 1, 0, 1, 0, 1, 0, 1, -1, 1, -1, 0, 2, 0
 SIXTY_ONE = (0, 0, -1, 0, 1, 0, 1, 0, -1, 0, 1, 0, 1, 0, 1, 0, 1, 0, 1, 0, 1, -1, 1, -1, 0, 2, 0, 2,
              0, 2, 0, 2, 1, -1, 0, -1, 1, 1, 1)
 
+SIXTY_SEVEN = ((0, 0, -1) + (0, -1, 0, 1, 0, 1, 0, 1, 0, 1, -1, 1)
+               + (-1, 0, 2, 0, 2, 0, 2, 0, 2, 0, 2, 1) + (-1, 0, 0, -1, -1, 1, 1, 1) + (1,))
+
 # The drawn out history of a step of this name has a term of more than 400 parts.
 GREAT = (0, -1, 0, 1, 1, -1, 0, -1, 0, 2, 0, 1, 0, 1, -1, -1, 4, -1, 0, 2, 0, 1, 0, 2, 0, 2, -1, 2)
 GREAT_WALK = (24, -6, 2, -5, 4, -2, 6, -20, 21, 22, -18, 8, -14, 15, 16)
@@ -406,11 +409,16 @@ class Histories(Checks):
         self.assertLessEqual(len(walk), 400)
         self.assertEqual(len(history_of_walk(SIXTY, walk)), 60)
         self.assertEqual(history_of_walk(SIXTY, walk), drawn_out(SIXTY, within))
-        within = from_within(SIXTY_ONE)
-        walk = walk_of_step(SIXTY_ONE, within)
-        self.assertLessEqual(len(walk), 400)
-        self.assertIs(does_pass(SIXTY_ONE, walk), True)
-        self.refused(60, history_of_walk, SIXTY_ONE, walk)
+        for term in (SIXTY_ONE, SIXTY_SEVEN):
+            walk = walk_of_step(term, from_within(term))
+            self.assertLessEqual(len(walk), 400)
+            self.assertIs(does_pass(term, walk), True)
+            self.refused(60, history_of_walk, term, walk)
+        # From the root it takes so many.
+        now, many = SIXTY_SEVEN, 0
+        while steps_of(now):
+            now, many = step_done(now, steps_of(now)[0]), many + 1
+        self.assertEqual(many, 67)
 
     def test_terms_that_are_too_large_along_the_history(self):
         self.assertIs(does_pass(GREAT, GREAT_WALK), True)

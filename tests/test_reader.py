@@ -35,6 +35,9 @@ def with_size(more):
             + (1, 0, 1, 0, 1, 0, 1, 0, 1, 0, 1, 6) + BOTH)
 
 
+# The last form of this one has 397 parts.
+NEARLY = (0, -1, 0, 1, 0, 1, -1, 0, 2, -1, 0, 3, 20) + (-1, -1, -1, -1, 0, 0, 0, 9, 4, 4, 4)
+
 WORKED = [TWICE, CHAIN, DOUBLE, DEEP, I, COPY, (1,), (7,), (-1, 7), (0, 1, 2), (-1, -1, 0, 2, 0, 1, 1),
           (0, -1, -1, 0, 2, 1, 7), (0, 0, -1, -1, 0, 1, 2, 5, 6)] + [
               numeral(n) for n in range(5)] + [
@@ -302,6 +305,12 @@ class Forms(Checks):
         self.refused(4000, read_form, (0, 0, 9) + LOOP + TWELVE)
         self.refused(400, read_form, (0, 0, 9) + both_times(7) + LOOP)
         self.refused(4000, read_form, (0, 0, 9) + LOOP + both_times(7))
+        # With its own part and its call the next front is the one that is too much.
+        self.assertEqual(len(read_form(NEARLY)), 397)
+        self.refused(400, read_form, (0, 0, 9) + NEARLY + (0, 8) + LOOP)
+        self.refused(400, read_form, (0, 0, 9) + NEARLY + (8,))
+        self.assertEqual(len(read_form((0, 9) + NEARLY)), 399)
+        self.assertEqual(len(read_form((-1, 0, 9) + NEARLY)), 400)
         # The first path is deep before there are many parts; and the other way round.
         self.refused(12, read_form, both_times(13))
         self.refused(400, read_form, both_times(12))
